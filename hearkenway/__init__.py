@@ -1,0 +1,1 @@
+"""Hearkenway: a tree of copies for hearers who come and go."""

@@ -1,0 +1,41 @@
+"""That each name of the interface is defined in its file, with its arguments."""
+
+import ast
+import pathlib
+import unittest
+
+PACKAGE = pathlib.Path(__file__).parent.parent / "hearkenway"
+
+FUNCTIONS = {
+    "nets": {
+        "is_net": ["thing"],
+        "is_tree": ["net", "root", "ahead"],
+        "is_trim": ["net", "root", "hearers", "ahead"],
+        "price": ["net", "root", "ahead"],
+        "lateness": ["net", "root", "ahead"],
+    },
+    "early": {
+        "earliest": ["net", "root"],
+        "ways": ["net", "root"],
+        "are_earliest": ["net", "root", "numbers"],
+        "is_closed": ["net", "root", "places"],
+    },
+}
+
+
+def defined_functions(module):
+    tree = ast.parse((PACKAGE / f"{module}.py").read_text())
+    return {
+        part.name: [argument.arg for argument in part.args.args]
+        for part in tree.body
+        if isinstance(part, ast.FunctionDef)
+    }
+
+
+class InterfaceTest(unittest.TestCase):
+    def test_each_function_is_defined_in_its_file_with_its_arguments(self):
+        for module, functions in FUNCTIONS.items():
+            defined = defined_functions(module)
+            for name, arguments in functions.items():
+                with self.subTest(f"{module}.{name}"):
+                    self.assertEqual(defined.get(name), arguments)
