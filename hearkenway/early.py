@@ -12,7 +12,7 @@ def earliest(net, root):
     # An earliest way enters no place twice, so as many rounds as places are enough.
     for turn in range(many):
         for start, end, cost, late in roads:
-            if start in least and (end not in least or least[start] + late < least[end]):
+            if undercuts(least, start, end, late):
                 least[end] = least[start] + late
     return least
 
@@ -33,17 +33,14 @@ def are_earliest(net, root, numbers):
     need_place(net, root)
     if not are_whole_pairs(numbers) or root not in numbers or numbers[root] != 0:
         return False
-    if any(undercuts(numbers, road) for road in net[1]):
+    if any(undercuts(numbers, start, end, late) for start, end, cost, late in net[1]):
         return False
     return all(place == root or is_attained(net, numbers, place) for place in numbers)
 
 
-def undercuts(numbers, road):
-    """Whether a road from a place in numbers leads out of them or is earlier than they say."""
-    start, end, cost, late = road
-    if start not in numbers:
-        return False
-    return end not in numbers or numbers[start] + late < numbers[end]
+def undercuts(numbers, start, end, more):
+    """Whether a road from a place in numbers leads out of them, or to its end with less than they say."""
+    return start in numbers and (end not in numbers or numbers[start] + more < numbers[end])
 
 
 def is_attained(net, numbers, place):

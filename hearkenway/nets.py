@@ -119,6 +119,17 @@ def serves(root, hearers, ahead):
     return all(place == root or place in ahead for place in hearers)
 
 
+def trimmed(hearers, ahead):
+    """The part of a tree that is on the ways to the hearers, which it serves."""
+    kept = {}
+    for place in hearers:
+        at = place
+        while at in ahead:
+            kept[at] = ahead[at]
+            at = ahead[at]
+    return kept
+
+
 def price(net, root, ahead):
     """The sum of the prices of a tree's roads."""
     need_net(net)

@@ -20,6 +20,27 @@ FUNCTIONS = {
         "are_earliest": ["net", "root", "numbers"],
         "is_closed": ["net", "root", "places"],
     },
+    "cheapest": {
+        "cheapest": ["net", "root", "hearers"],
+        "is_table": ["net", "hearers", "table"],
+        "shows": ["net", "root", "hearers", "table", "number"],
+    },
+    "ontime": {
+        "on_time": ["net", "root"],
+        "is_on_time": ["net", "root", "hearers", "ahead"],
+        "cheapest_on_time": ["net", "root", "hearers"],
+    },
+    "bargains": {
+        "bargains": ["net", "root"],
+        "way_for": ["net", "root", "place", "pair"],
+        "are_bargains": ["net", "root", "table"],
+        "cheapest_within": ["net", "root", "place", "late"],
+    },
+    "grafts": {
+        "graft": ["net", "root", "ahead", "place"],
+        "are_prices": ["net", "root", "ahead", "numbers"],
+        "cut": ["net", "root", "hearers", "ahead"],
+    },
 }
 
 
