@@ -220,3 +220,45 @@ def prices_hold(net, root, tree, numbers):
         if i in numbers and (j not in numbers or numbers[j] > numbers[i] + price):
             return False
     return True
+
+
+def least_price_of_all(net, root):
+    """The least price of trees of just the places that can be reached, over all dicts of places ahead."""
+    reached = reached_from(net, root)
+    others = sorted(reached - {root})
+    prices = []
+    for picked in itertools.product(sorted(reached), repeat=len(others)):
+        tree = dict(zip(others, picked))
+        if leads_home(net, root, tree):
+            prices.append(price_of(net, tree))
+    return min(prices)
+
+
+def leads_home(net, root, tree):
+    """Whether from each key, going ahead by roads, one comes to the root."""
+    roads = {(i, j) for i, j, price, late in net[1]}
+    if any((i, j) not in roads for j, i in tree.items()):
+        return False
+    for place in tree:
+        gone = []
+        while place != root:
+            if place in gone or place not in tree:
+                return False
+            gone.append(place)
+            place = tree[place]
+    return True
+
+
+def weights_hold(net, root, weights):
+    """Whether a list of tuples (tuple of whole numbers, whole number) is such as point 27 tells."""
+    reached = reached_from(net, root)
+    for places, weight in weights:
+        if list(places) != sorted(set(places)) or not places or not set(places) <= reached - {root} or weight < 1:
+            return False
+    tuples = [places for places, weight in weights]
+    if any(tuples.count(places) > 1 for places in tuples):
+        return False
+    for i, j, price, late in net[1]:
+        if {i, j} <= reached and sum(w for places, w in weights if j in places and i not in places) > price:
+            return False
+    return True

@@ -2,8 +2,43 @@
 
 import itertools
 
-from hearkenway.errors import NoNet, NoPlace, NoTree
-from tests.samples import NET, NO_DICTS, NO_HEARERS_OF_SIX, NO_NETS, NO_PLACES_OF_SIX, NO_TREES_OF_NET
+from hearkenway.errors import NoDeed, NoNet, NoPlace, NoTree, NoWays
+from tests.samples import (
+    NET,
+    NO_DICTS,
+    NO_HEARERS_OF_SIX,
+    NO_NETS,
+    NO_PLACES_OF_SIX,
+    NO_TREES_OF_NET,
+    NO_WAYS,
+)
+
+NO_COMES_OF_THREE = [
+    None,
+    0,
+    "012",
+    [],
+    [0, 1, 1],
+    {},
+    {0: 0, 1: 1, 2: 1},
+    (),
+    (1,),
+    (1, 1),
+    (0, 1, 1, 0),
+    (0, 0, 3),
+    (3, 0, 0),
+    (0, 0, 10**30),
+    (-1, 1, 1),
+    (1, 2, -1),
+    (2, 2, 0),
+    (1, 1, 2),
+    (2, 2, 2),
+    (True, 1, 1),
+    (0, False, 1),
+    (None, 1, 1),
+    (0, 1.0, 1),
+    (0, "1", 1),
+]
 
 # The kinds in the order in which what is amiss of them is refused.
 AMISS = {
@@ -12,9 +47,25 @@ AMISS = {
     "hearers": (NoPlace, NO_HEARERS_OF_SIX),
     "few": (NoPlace, [*NO_HEARERS_OF_SIX, ()]),
     "tree": (NoTree, NO_TREES_OF_NET + NO_DICTS),
+    "three ways": (NoWays, [*NO_WAYS, (None, 0, 1, 2), (None,) + (0,) * 7]),
+    "manner": (NoDeed, ["", "Counted", "counted ", "count", "bent", b"counted", None, True, 0, ("counted",), ["counted"]]),
+    "comes": (NoDeed, NO_COMES_OF_THREE),
+    "emits": (NoDeed, [-1, 4, 10**30, True, False, None, "1", 1.0, (1,)]),
+    "number": (NoDeed, [-1, 13, 10**30, True, False, None, "1", 1.0, (1,)]),
 }
-RANKS = [NoNet, NoPlace, NoTree]
-GOOD = {"net": NET, "place": 0, "hearers": (1, 3), "few": (1, 3), "tree": {1: 0, 3: 1}}
+RANKS = [NoNet, NoWays, NoPlace, NoTree, NoDeed]
+GOOD = {
+    "net": NET,
+    "place": 0,
+    "hearers": (1, 3),
+    "few": (1, 3),
+    "tree": {1: 0, 3: 1},
+    "three ways": (None, 0, 1),
+    "manner": "uncounted",
+    "comes": (0, 1, 2),
+    "emits": 2,
+    "number": 3,
+}
 
 
 def check_refusals(test, ask, kinds):

@@ -41,22 +41,66 @@ FUNCTIONS = {
         "are_prices": ["net", "root", "ahead", "numbers"],
         "cut": ["net", "root", "hearers", "ahead"],
     },
+    "everywhere": {
+        "everywhere": ["net", "root"],
+        "are_weights": ["net", "root", "weights"],
+        "shows_everywhere": ["net", "root", "weights", "number"],
+    },
+    "hearing": {
+        "are_ways": ["thing"],
+    },
+    "weaving": {
+        "played": ["up", "deeds"],
+        "at_rest": ["up", "deeds"],
+        "are_stays": ["up", "deeds", "stays"],
+        "rise": ["stays"],
+    },
+    "bent": {
+        "tried": ["up", "manner", "comes", "emits", "number"],
+        "breaks": ["up", "manner", "comes", "emits", "deeds"],
+    },
+}
+
+# The methods of each class, by its file and name; __init__ for what it is begun with.
+CLASSES = {
+    ("hearing", "Hearing"): {
+        "__init__": ["up"],
+        "do": ["deed"],
+        "hearers": [],
+        "serves": ["place"],
+        "needed": ["place"],
+        "waiting": ["place"],
+        "stays": ["place"],
+        "letters": [],
+        "copies": [],
+    },
 }
 
 
-def defined_functions(module):
-    tree = ast.parse((PACKAGE / f"{module}.py").read_text())
+def body_of(module):
+    return ast.parse((PACKAGE / f"{module}.py").read_text()).body
+
+
+def defined_in(body):
+    """Each function or method that stands right in a body, with its arguments."""
     return {
-        part.name: [argument.arg for argument in part.args.args]
-        for part in tree.body
-        if isinstance(part, ast.FunctionDef)
+        part.name: [argument.arg for argument in part.args.args] for part in body if isinstance(part, ast.FunctionDef)
     }
 
 
 class InterfaceTest(unittest.TestCase):
     def test_each_function_is_defined_in_its_file_with_its_arguments(self):
         for module, functions in FUNCTIONS.items():
-            defined = defined_functions(module)
+            defined = defined_in(body_of(module))
             for name, arguments in functions.items():
                 with self.subTest(f"{module}.{name}"):
                     self.assertEqual(defined.get(name), arguments)
+
+    def test_each_method_is_defined_in_its_class_with_its_arguments(self):
+        for (module, name), methods in CLASSES.items():
+            bodies = [part.body for part in body_of(module) if isinstance(part, ast.ClassDef) and part.name == name]
+            self.assertEqual(len(bodies), 1)
+            defined = defined_in(bodies[0])
+            for method, arguments in methods.items():
+                with self.subTest(f"{module}.{name}.{method}"):
+                    self.assertEqual(defined.get(method), ["self", *arguments])

@@ -47,6 +47,18 @@ def read_files():
     return [(name, text, ast.parse(text)) for name, text in texts]
 
 
+def method_names():
+    """The names of all methods of the package."""
+    return {
+        part.name
+        for name, text, tree in read_files()
+        for owner in ast.walk(tree)
+        if isinstance(owner, ast.ClassDef)
+        for part in owner.body
+        if isinstance(part, ast.FunctionDef)
+    }
+
+
 def imported_names(tree):
     return {name.name for part in tree.body if isinstance(part, ast.ImportFrom) for name in part.names}
 
@@ -99,12 +111,26 @@ class LanguageTest(unittest.TestCase):
     def test_builtins_and_methods_are_the_allowed_ones(self):
         for name, text, tree in read_files():
             with self.subTest(name):
-                own = set(bound_names(tree)) | imported_names(tree)
+                own = set(bound_names(tree)) | imported_names(tree) | method_names()
                 for part in ast.walk(tree):
                     if isinstance(part, ast.Name) and part.id not in own:
                         self.assertIn(part.id, BUILTINS)
                     if isinstance(part, ast.Call) and isinstance(part.func, ast.Attribute):
                         self.assertIn(part.func.attr, METHODS | own)
+
+    def test_no_name_is_both_a_method_and_an_attribute(self):
+        stored = set()
+        read = set()
+        for name, text, tree in read_files():
+            called = {id(part.func) for part in ast.walk(tree) if isinstance(part, ast.Call)}
+            for part in ast.walk(tree):
+                if isinstance(part, ast.Attribute) and isinstance(part.ctx, ast.Store):
+                    stored.add(part.attr)
+                elif isinstance(part, ast.Attribute) and id(part) not in called:
+                    read.add(part.attr)
+        self.assertEqual(stored & method_names(), set())
+        self.assertEqual(stored & METHODS, set())
+        self.assertEqual(read - stored, set())
 
     def test_expressions(self):
         barred = (ast.Div, ast.Global, ast.AsyncFunctionDef, ast.Await)
