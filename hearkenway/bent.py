@@ -1,7 +1,7 @@
 """Why copies have counts: all short weavings, tried with counts and without."""
 
 from hearkenway.errors import NoDeed, NoPlace, NoWays
-from hearkenway.hearing import Hearing, are_ways
+from hearkenway.hearing import Hearing, need_ways
 from hearkenway.kinds import is_within
 from hearkenway.weaving import rise
 
@@ -49,8 +49,9 @@ def breaks(up, manner, comes, emits, deeds):
 
 
 def need_trial(up, manner, comes, emits):
-    if not are_ways(up) or len(up) > MOST_TRIED_PLACES:
-        raise NoWays("what was handed in as ways up of at most three places is none")
+    need_ways(up)
+    if len(up) > MOST_TRIED_PLACES:
+        raise NoWays("ways up that are tried must have at most three places")
     if not (isinstance(manner, str) and manner in MANNERS):
         raise NoDeed("the manner must be counted or uncounted")
     if not are_comes(up, comes):

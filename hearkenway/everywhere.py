@@ -22,7 +22,8 @@ def everywhere(net, root):
 
 
 def roads_between(net, reached):
-    return [road for road in net[1] if road[0] in reached and road[1] in reached]
+    # Where a road begins at a place that can be reached, its end can be reached, too.
+    return [road for road in net[1] if road[0] in reached]
 
 
 def leads_into(start, end, places):

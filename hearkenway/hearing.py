@@ -27,6 +27,11 @@ def leads_up(up, place):
     return up[place] is None
 
 
+def need_ways(up):
+    if not are_ways(up):
+        raise NoWays("what was handed in as ways up is none")
+
+
 def is_deed(thing):
     """Whether anything at all has a deed's form: its word, and something in a place's stead where it needs one."""
     if not (isinstance(thing, tuple) and len(thing) > 0 and isinstance(thing[0], str)):
@@ -40,8 +45,7 @@ class Hearing:
     """What hearers hear who come and go: each place with its count, its letters, its copies and its stays."""
 
     def __init__(self, up):
-        if not are_ways(up):
-            raise NoWays("what was handed in as ways up is none")
+        need_ways(up)
         self.ahead = up
         self.root = up.index(None)
         # Only a trial of what happens without counts sets this otherwise.
@@ -132,7 +136,7 @@ class Hearing:
     def take_copy(self, place):
         """Let a place take the first copy that waits for it, or drop it."""
         number, count = self.copy_rows[place].pop(0)
-        # A copy of another count was put down ahead of a cut that is still under way.
+        # A copy of another count was put down by an earlier graft; behind it numbers may be missing.
         if self.needed(place) and (count == self.counts[place] or not self.counted):
             self.take_number(place, number)
 

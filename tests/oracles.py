@@ -262,3 +262,54 @@ def weights_hold(net, root, weights):
         if {i, j} <= reached and sum(w for places, w in weights if j in places and i not in places) > price:
             return False
     return True
+
+
+def keeping(kept, number):
+    return {place for place in kept if number in kept[place]}
+
+
+def lacking(kept, wants, number):
+    return {place for place in wants if number in wants[place] and number not in kept[place]}
+
+
+def standing_net(net, kept):
+    """The same net without the roads from or to fallen places."""
+    return (net[0], tuple(road for road in net[1] if road[0] in kept and road[1] in kept))
+
+
+def sends_by_words(net, kept, wants, number, ahead):
+    """Whether a dict from whole numbers to whole numbers is a send as point 22 tells, but for the least price."""
+    keepers, lackers = keeping(kept, number), lacking(kept, wants, number)
+    roads = {(i, j) for i, j, price, late in net[1] if i in kept and j in kept}
+    if set(ahead) & keepers or not lackers <= set(ahead):
+        return False
+    if any((i, j) not in roads for j, i in ahead.items()):
+        return False
+    if any(place not in lackers and place not in ahead.values() for place in ahead):
+        return False
+    for place in ahead:
+        gone = []
+        while place not in keepers:
+            if place in gone or place not in ahead:
+                return False
+            gone.append(place)
+            place = ahead[place]
+    return True
+
+
+def least_send_price(net, kept, wants, number):
+    """The least price of all sends of a number, over all dicts of places ahead, or None where there is none."""
+    places = sorted(set(kept) - keeping(kept, number))
+    prices = [
+        price_of(net, ahead)
+        for ahead in all_dicts(places, sorted(kept))
+        if sends_by_words(net, kept, wants, number, ahead)
+    ]
+    return min(prices, default=None)
+
+
+def least_send_price_by_sets(net, kept, wants, number):
+    """The same for larger nets, by the sets of places that trees from one place more may have."""
+    many, roads = standing_net(net, kept)
+    more = tuple((many, place, 0, 1) for place in sorted(keeping(kept, number)))
+    return least_serving_price(least_set_prices((many + 1, roads + more), many), lacking(kept, wants, number))

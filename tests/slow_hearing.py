@@ -106,6 +106,52 @@ class SlowHearing:
         return any(not rises_by_one(stay) for stays in self.stays.values() for stay in stays)
 
 
+class SlowCourse:
+    """A slow hearing that goes from moment to moment, with the moments of all that was put up and down."""
+
+    def __init__(self, up, late):
+        self.slow = SlowHearing(up)
+        self.late = late
+        self.up_moments = {place: [] for place in self.slow.places}
+        self.down_moments = {place: [] for place in self.slow.places}
+        self.told = {place: [] for place in self.slow.places}
+
+    def do(self, now, deed):
+        self.slow.do(deed)
+        for place in self.slow.places:
+            for moments, rows in ((self.up_moments, self.slow.put_up), (self.down_moments, self.slow.put_down)):
+                moments[place] += [now] * (len(rows[place]) - len(moments[place]))
+            stays = self.slow.stays[place]
+            self.told[place] += [[] for stay in stays[len(self.told[place]) :]]
+            for told, stay in zip(self.told[place], stays):
+                told += [(number, now) for number in stay[len(told) :]]
+
+    def under_way(self):
+        return any(self.slow.waiting(place) != (0, 0) for place in self.slow.places)
+
+    def take_due(self, now):
+        for word, moments, taken in (("up", self.up_moments, self.slow.read), ("down", self.down_moments, self.slow.got)):
+            for place in self.slow.places:
+                for moment in moments[place][taken[place] :]:
+                    if moment + self.late[place] == now:
+                        self.do(now, (word, place))
+
+
+def slowly_heard(up, late, events):
+    """What is heard when, moment by moment; where nothing is under way, on to the next event."""
+    course = SlowCourse(up, late)
+    left = list(events)
+    now = 0
+    while left or course.under_way():
+        if not course.under_way():
+            now = left[0][0]
+        course.take_due(now)
+        while left and left[0][0] == now:
+            course.do(now, left.pop(0)[1])
+        now += 1
+    return course.told
+
+
 def rises_by_one(stay):
     return not stay or stay == list(range(stay[0], stay[0] + len(stay)))
 

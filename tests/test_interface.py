@@ -59,6 +59,20 @@ FUNCTIONS = {
         "tried": ["up", "manner", "comes", "emits", "number"],
         "breaks": ["up", "manner", "comes", "emits", "deeds"],
     },
+    "moments": {
+        "heard": ["up", "late", "events"],
+        "first_moments": ["up", "late", "comes"],
+    },
+    "roots": {
+        "next_root": ["kept", "row"],
+        "mend": ["net", "kept", "wants"],
+        "send_net": ["net", "kept", "number"],
+        "is_send": ["net", "kept", "wants", "number", "ahead"],
+    },
+    "nettexts": {
+        "show_net": ["net"],
+        "read_net": ["text"],
+    },
 }
 
 # The methods of each class, by its file and name; __init__ for what it is begun with.
@@ -73,6 +87,10 @@ CLASSES = {
         "stays": ["place"],
         "letters": [],
         "copies": [],
+    },
+    ("desk", "Desk"): {
+        "__init__": [],
+        "say": ["row"],
     },
 }
 

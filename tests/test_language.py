@@ -47,6 +47,13 @@ def read_files():
     return [(name, text, ast.parse(text)) for name, text in texts]
 
 
+def top_name(part):
+    """The name that a statement at module level gives to something, or None."""
+    if isinstance(part, (ast.FunctionDef, ast.ClassDef)):
+        return part.name
+    return part.targets[0].id if isinstance(part, ast.Assign) else None
+
+
 def method_names():
     """The names of all methods of the package."""
     return {
@@ -101,6 +108,26 @@ class LanguageTest(unittest.TestCase):
                         self.assertRegex(part.module, r"^hearkenway\.")
                         self.assertIn(PACKAGE / f"{part.module.split('.')[1]}.py", FILES)
 
+    def test_no_files_import_each_other(self):
+        above = {
+            name[:-3]: {part.module.split(".")[1] for part in tree.body if isinstance(part, ast.ImportFrom)}
+            for name, text, tree in read_files()
+        }
+        while any(not imported for imported in above.values()):
+            done = {name for name, imported in above.items() if not imported}
+            above = {name: imported - done for name, imported in above.items() if name not in done}
+        self.assertEqual(above, {})
+
+    def test_imports_are_from_the_file_that_defines_the_name_and_are_used(self):
+        defined = {name[:-3]: {top_name(part) for part in tree.body} for name, text, tree in read_files()}
+        for name, text, tree in read_files():
+            used = {part.id for part in ast.walk(tree) if isinstance(part, ast.Name)}
+            for part in tree.body:
+                if isinstance(part, ast.ImportFrom):
+                    names = {imported.name for imported in part.names}
+                    self.assertLessEqual(names, defined[part.module.split(".")[1]], name)
+                    self.assertLessEqual(names, used, name)
+
     def test_no_name_of_an_import_or_a_builtin_means_something_else(self):
         for name, text, tree in read_files():
             with self.subTest(name):
@@ -140,6 +167,7 @@ class LanguageTest(unittest.TestCase):
                     self.assertNotIsInstance(part, barred)
                     if isinstance(part, ast.Constant):
                         self.assertNotIsInstance(part.value, (float, complex))
+                        self.assertNotIn("%", str(part.value))
                     if isinstance(part, ast.Compare) and isinstance(part.ops[0], (ast.Is, ast.IsNot)):
                         self.assertIsInstance(part.comparators[0], ast.Constant)
                         self.assertIn(part.comparators[0].value, (None, True, False))
