@@ -52,7 +52,7 @@ def send_net(net, kept, number):
     need_room(net)
     many, roads = net
     standing = [(start, end, cost, late) for start, end, cost, late in roads if start in kept and end in kept]
-    return (many + 1, (*standing, *[(many, place, 0, 1) for place in keepers_of(kept, number)]))
+    return (many + 1, tuple(standing + [(many, place, 0, 1) for place in keepers_of(kept, number)]))
 
 
 def is_send(net, kept, wants, number, ahead):
@@ -62,7 +62,10 @@ def is_send(net, kept, wants, number, ahead):
     if not are_whole_pairs(ahead) or any(place in ahead for place in keepers):
         return False
     copying = list(ahead.values())
-    whole = {**ahead, **{place: net[0] for place in keepers if place in copying}}
+    whole = dict(ahead)
+    for place in keepers:
+        if place in copying:
+            whole[place] = net[0]
     return is_trim(send_net(net, kept, number), net[0], lackers_of(kept, wants, number), whole)
 
 
